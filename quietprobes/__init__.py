@@ -1,0 +1,1 @@
+"""Quietprobes: rows that only look must change nothing."""
