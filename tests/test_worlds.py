@@ -180,7 +180,8 @@ class ComparedTest(unittest.TestCase):
 
 class DuplicateTest(unittest.TestCase):
     def test_equal_and_of_its_own(self):
-        deeds = [("fetch", "f", 5), ("bind", "g", "f"), ("seed", "d"), ("put", "t", "a"), ("change", "s"), ("look", "v")]
+        deeds = [
+            ("fetch", "f", 5), ("bind", "g", "f"), ("seed", "d"), ("put", "t", "a"), ("change", "s"), ("look", "v")]
         world = after(*deeds)
         twin = world.duplicate()
         self.assertIsInstance(twin, World)
