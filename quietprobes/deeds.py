@@ -57,14 +57,22 @@ def is_deed(deed):
 def _is_part(part, given):
     """Whether any object can stand where PARTS has this part."""
     if part == "length":
-        return is_int(given) and 0 <= given <= LONGEST_ROW
+        return is_length(given)
     if part == "keys":
         return isinstance(given, tuple) and all([is_name(key) for key in given])
     return is_name(given)
 
 
+def is_length(given):
+    """Whether any object is a number of items of a row."""
+    return is_int(given) and 0 <= given <= LONGEST_ROW
+
+
 def check_deed(by_name, deed):
-    """Raise NoThing or NoKey of the first name of a deed that the things, a dict by their names, do not have."""
+    """Raise NoThing or NoKey of the first name of a deed that the things, a dict by their names, do not have.
+
+    The deed may also be a look or a row, which lack what comes behind the names of things.
+    """
     for part, given in zip(PARTS[deed[0]], deed[1:]):
         if part == "key" and given not in by_name[deed[1]].parts:
             raise NoKey(given)

@@ -1,6 +1,6 @@
 """The things that programs work on [4]."""
 
-from quietprobes.checks import check_names, check_unlike
+from quietprobes.checks import check_names, check_unlike, is_name
 from quietprobes.errors import TooMany
 
 MOST_KEYS = 4
@@ -62,3 +62,19 @@ class Thing:
 
     def __str__(self):
         return " ".join([self.kind, self.name, *self.parts])
+
+
+def read_thing(line):
+    """The thing with this line, a string; None if there is none."""
+    words = line.split(" ")
+    if len(words) < 2 or words[0] not in Thing.KINDS or not all([is_name(word) for word in words]):
+        return None
+    parts = tuple(words[2:])
+    return Thing(words[0], words[1], parts) if _can_have(words[0], parts) else None
+
+
+def _can_have(kind, parts):
+    """Whether a thing of this kind can have these names as its parts."""
+    if kind == "table":
+        return len(parts) <= MOST_KEYS and len(set(parts)) == len(parts)
+    return len(parts) == (1 if kind == "field" else 0)

@@ -9,8 +9,8 @@ PACKAGE = pathlib.Path(__file__).resolve().parent.parent / "quietprobes"
 
 # Each module imports only from modules ahead of it; the helpers of the package stand in between.
 ORDER = [
-    "errors", "checks", "things", "looks", "deeds", "states", "worlds", "rows", "programs", "settings", "contents",
-    "runs", "comparing", "joint", "verdicts", "tables", "sets", "turning", "desk",
+    "errors", "checks", "things", "looks", "deeds", "states", "worlds", "rows", "blocks", "faults", "programs",
+    "settings", "contents", "runs", "comparing", "joint", "verdicts", "tables", "sets", "turning", "desk",
 ]
 BUILTINS = {
     "len", "range", "enumerate", "zip", "min", "max", "sum", "abs", "sorted", "reversed", "int", "str", "bool", "list",
