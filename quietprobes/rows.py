@@ -111,7 +111,7 @@ def deeds_of(row):
         return (*row[3], row[4])
     if row[0] in ("if", "while"):
         return deeds_of(row[1:])
-    # What is left is no deed: the steps, and the test ask.
+    # Neither the steps nor the test ask are deeds.
     return (row,) if row[0] in DEEDS or row[0] in LOOKS else ()
 
 
