@@ -57,8 +57,8 @@ def is_pair(program, pair, setting):
     place, state = pair
     if not program.is_place(place) or not isinstance(state, tuple):
         return False
-    if not place or not state:
-        return not place and not state
+    if not place:
+        return not state
     if len(state) != len(program.things) + 1:
         return False
     feeds = [entry for thing, entry in zip(program.things, state) if thing.kind == "feed"]

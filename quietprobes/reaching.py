@@ -20,7 +20,7 @@ class Reached:
         # For each pair the number of rows, and from where and by which choices it was reached.
         self._rows = [0]
         self._ways = [(0, ())]
-        self._places = {self.pairs[0]: 0}
+        self._met = {self.pairs[0]: True}
 
     def spread(self, at):
         """Pass the next row from the pair at a place of the list."""
@@ -31,7 +31,7 @@ class Reached:
                 continue
             if twins.failed is not None:
                 self.failures.append((twins.failed, at, choices))
-            self._add((twins.place, twins.told_state()), at, choices)
+            self._meet((twins.place, twins.told_state()), at, choices)
 
     def rows_of(self, at):
         """The number of rows that are passed by a move of the pair at a place of the list, its own included."""
@@ -54,10 +54,10 @@ class Reached:
                 found[name] = (self.rows_of(at), self.contents_of(at, choices))
         return found
 
-    def _add(self, pair, at, choices):
+    def _meet(self, pair, at, choices):
         """Put a pair behind the others, if it is new."""
-        if pair not in self._places:
-            self._places[pair] = len(self.pairs)
+        if pair not in self._met:
+            self._met[pair] = True
             self.pairs.append(pair)
             self._rows.append(self._rows[at] + 1)
             self._ways.append((at, choices))

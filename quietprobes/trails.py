@@ -31,11 +31,11 @@ class Trails:
                 self._add(number, name, last)
 
     def first_uneven(self, field, names):
-        """The first one of these names, of a field and what it is over, one after another; None if there is none."""
+        """Which of these names comes first in a field and what it is over, one after another; one of them does."""
         at = field
-        while at not in names and at in self._below:
+        while at not in names:
             at = self._below[at]
-        return at if at in names else None
+        return at
 
     def trail_of(self, name):
         """The trail of an uneven thing."""

@@ -32,7 +32,7 @@ class Twins:
         self._program = program
         self._setting = setting
         self._base = base
-        self._gates = list(state[-1]) if state else []
+        self._gates = list(state[-1])
         self._halves = (_half(program.things, state, 0), _half(program.things, state, 1))
         self._rolled = {thing.name: entry for thing, entry in zip(program.things, state) if thing.kind == "dice"}
         feeds = {thing.name: entry for thing, entry in zip(program.things, state) if thing.kind == "feed"}
@@ -44,14 +44,14 @@ class Twins:
         self._lengths = {}
         self._loads = []
 
-    def pass_next(self, choices):
+    def move(self, choices):
         """Pass the next row in both runs. Behind a parting only has_parted counts."""
         row = self._program.rows[self.place[-1]]
         if is_probe(row):
-            goes_on = self._reach(row, choices)
+            goes_on = self._move_probe(row, choices)
             self.place = self._program.behind(self.place, goes_on)
         else:
-            base, setting = self._pass_own(row, choices)
+            base, setting = self._move_own(row, choices)
             self.has_parted = base != setting
             self.place = self._program.behind(self.place, setting)
 
@@ -80,7 +80,7 @@ class Twins:
         base, setting = [half.contents[thing.name] for half in self._halves]
         return base if thing.kind == "source" else (base, setting)
 
-    def _pass_own(self, row, choices):
+    def _move_own(self, row, choices):
         """Pass a row of the program itself, and return both answers."""
         deed = row[1:] if row[0] in OPENING else row
         if deed[0] == "ask":
@@ -89,9 +89,9 @@ class Twins:
             return answer, answer
         if deed[0] == "take" and self._statuses[self._row_of[deed[1]]] == AHEAD:
             return UNLIKE
-        return self._do_common(deed, choices) if deeds_of(deed) else ALIKE
+        return self._do_in_both(deed, choices) if deeds_of(deed) else ALIKE
 
-    def _reach(self, row, choices):
+    def _move_probe(self, row, choices):
         """Reach a probe, and return whether the runs go on."""
         _, name, gate, _, _ = row
         if self._setting[name] == Setting.OUT:
@@ -100,7 +100,7 @@ class Twins:
         self._count(name, gate)
         if not acts(gate, times):
             return True
-        base, setting = self._do_looks(row, choices)
+        base, setting = self._move_looks(row, choices)
         if row[0] != "assert" or self._setting[name] != Setting.ON:
             return True
         if self._base[name] == Setting.ON:
@@ -116,16 +116,16 @@ class Twins:
         elif gate == "second":
             self._gates.remove(name)
 
-    def _do_looks(self, row, choices):
+    def _move_looks(self, row, choices):
         """Do the looks of a probe, and return both answers of the last one."""
         name = row[1]
         common = len(probe_deeds(row, self._base[name]))
         answers = ALIKE
         for at, deed in enumerate(probe_deeds(row, self._setting[name])):
-            answers = self._do_common(deed, choices) if at < common else (None, self._do_extra(deed, choices))
+            answers = self._do_in_both(deed, choices) if at < common else (None, self._do_in_one(deed, choices))
         return answers
 
-    def _do_common(self, deed, choices):
+    def _do_in_both(self, deed, choices):
         """Do a deed in both runs, and return both answers."""
         word, name = deed[0], deed[1]
         if word in ("take", "skip", "drain", "fetch", "bind"):
@@ -157,7 +157,7 @@ class Twins:
             return there, there
         return ALIKE
 
-    def _do_extra(self, deed, choices):
+    def _do_in_one(self, deed, choices):
         """Do a deed in the run with the setting alone, and return its answer."""
         word, name = deed[0], deed[1]
         if word in ("take", "drain"):
@@ -206,7 +206,7 @@ def outcomes(program, pair, setting, base):
     while given is not None:
         choices = Choices(given)
         twins = Twins(program, pair, setting, base)
-        twins.pass_next(choices)
+        twins.move(choices)
         found.append((tuple(choices.made), twins))
         given = choices.given_next()
     return found
@@ -216,5 +216,5 @@ def contents_of_way(program, setting, base, first, ways):
     """Contents with which the runs go from the first pair over moves with these choices."""
     twins = Twins(program, first, setting, base)
     for made in ways:
-        twins.pass_next(Choices(made))
+        twins.move(Choices(made))
     return twins.told_contents()

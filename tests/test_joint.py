@@ -111,6 +111,16 @@ class IsPairTest(unittest.TestCase):
         ]:
             self.assert_state(False, changed(F, first, changed(G, second)))
 
+    def test_three_feeds(self):
+        program = Program([Thing.feed(name) for name in "fgh"], ("main", [("say", "hi")]))
+        for numbers in [(0, 0, 0), (0, 0, 1), (0, 1, 0), (0, 1, 1), (0, 1, 2)]:
+            self.assert_state(True, (*[(number, "even") for number in numbers], ()), program=program)
+        for numbers in [(0, 0, 2), (0, 1, 3), (0, 2, 1), (1, 0, 2), (0, 2, 2), (1, 1, 1)]:
+            self.assert_state(False, (*[(number, "even") for number in numbers], ()), program=program)
+        self.assert_state(True, ((0, "even"), (1, "ahead"), (0, "even"), ()), program=program)
+        self.assert_state(False, ((0, "even"), (1, "ahead"), (0, "ahead"), ()), program=program)
+        self.assert_state(False, ((0, "even"), (0, "even"), (0, "ended"), ()), program=program)
+
     def test_dice(self):
         self.assert_state(True, changed(D, "ahead"))
         for entry in ["ended", "", "eve", ("even",), ["even"], ("even", "even"), ("even", "ahead"), None, 0]:

@@ -85,6 +85,15 @@ class SetsTest(unittest.TestCase):
         self.assert_sets(program, [("p", "q")])
         self.assertEqual((least_harmful(program), greatest_harmless(program)), ([("p", "q")], [("p",), ("q",)]))
 
+    def test_least_and_greatest_sets_of_unlike_sizes(self):
+        things = [Thing.source("s"), Thing.field("v", "s"), Thing.field("w", "v"), Thing.slot("n")]
+        rows = [probe("p", [("look", "v")]), ("change", "s"), probe("q", [("look", "w")]), probe("r", [("look", "w")]), ("renew", "v"),
+                ("look", "w"), probe("a", [("mark", "n")]), ("tell", "n")]
+        program = Program(things, ("main", rows))
+        harmful = [names for names in sets_of("apqr") if "a" in names or "p" in names and set(names) & {"q", "r"}]
+        self.assert_sets(program, harmful)
+        self.assertEqual((least_harmful(program), greatest_harmless(program)), ([("a",), ("p", "q"), ("p", "r")], [("p",), ("q", "r")]))
+
     def test_an_assert_that_stops_the_run(self):
         rows = [("load", "t"), probe("b", [DROP]), ("assert", "a", "always", (), ("has", "t", "a")), SIZE]
         self.assert_sets(program_of(*rows), [("b",)])

@@ -90,6 +90,14 @@ class ClosedTest(unittest.TestCase):
         for at in range(len(pairs) + 1):
             self.assert_closed(False, [*pairs[:at], parts, *pairs[at:]])
 
+    def test_a_move_that_parts_leads_nowhere(self):
+        # What would come behind the parting is in the table.
+        program = Program(PROGRAM.things, ("main", [("size", "t"), ("say", "hi"), probe()]))
+        entry = ((("a", 0),), ())
+        behind = spread(program, ON, [first_pair(program), ((1,), (entry, 0, ()))])
+        self.assert_closed(True, behind, program)
+        self.assert_closed(False, [*behind, ((0,), (entry, 0, ()))], program)
+
     def test_a_member_that_is_no_pair(self):
         pairs = judge(PROGRAM, ON).pairs
         for thing in [*ODD_OBJECTS, pairs[0][1], list(pairs[0]), (*pairs[0], ()), (pairs[0],), ((), pairs[0][1]), ((9,), pairs[0][1])]:

@@ -22,9 +22,10 @@ def probe(name, args=(), body=(), gate="always"):
     return "probe", name, gate, tuple(args), tuple(body)
 
 
-def parting_of(kinds, rows, setting, base=None, contents=LENGTHS):
+def parting_of(kinds, rows, setting, base=None, contents=LENGTHS, called=False):
     things = [thing for kind in kinds.split() for thing in THINGS[kind]]
-    return compare(Program(things, ("main", rows)), contents, setting, base=base)
+    parts = [("main", [("call", "sub")]), ("sub", rows)] if called else [("main", rows)]
+    return compare(Program(things, *parts), contents, setting, base=base)
 
 
 class TrailTest(unittest.TestCase):
@@ -32,6 +33,9 @@ class TrailTest(unittest.TestCase):
         parting = parting_of(kinds, rows, setting or Setting("p"), base, contents)
         self.assertIsNotNone(parting)
         self.assertTrue(same((parting.thing, parting.trail), (thing, trail)), vars(parting))
+        # The same rows in a part that is called: the call is row 0.
+        parting = parting_of(kinds, rows, setting or Setting("p"), base, contents, called=True)
+        self.assertTrue(same((parting.thing, parting.trail), (thing, [(number + 1, name) for number, name in trail])), vars(parting))
 
     def test_each_extra_deed(self):
         for kinds, rows, thing in [

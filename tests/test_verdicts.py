@@ -116,6 +116,13 @@ class JudgeTest(unittest.TestCase):
         verdict = self.assert_harmful(program_of(*rows), 9, 8)
         self.assertTrue(verdict.contents.lengths[0] >= 3 and verdict.contents.lengths[1] >= 2)
 
+    def test_a_feed_that_was_never_fetched(self):
+        # g keeps its empty row of the beginning, whatever is fetched for f.
+        for fetchings in range(1, 6):
+            rows = [*[("fetch", "f")] * fetchings, ("take", "g"), ("take", "f"), probe([("take", "f")]), ("take", "g"), ("take", "f")]
+            verdict = self.assert_harmful(program_of(*rows), fetchings + 5, fetchings + 4)
+            self.assertGreaterEqual(verdict.contents.lengths[fetchings - 1], 2)
+
     def test_the_fewest_rows(self):
         # A long way that comes first in the order of choices, and a short one.
         rows = [("if", "ask", "w"), probe([GET]), ("else",), ("say", "a"), ("say", "b"), probe([GET], name="q"), ("say", "c"), END, SIZE]
